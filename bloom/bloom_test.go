@@ -87,7 +87,7 @@ func TestBitsOfGreatNumbers(t *testing.T) {
 	}
 }
 
-// TestPlacesExamples: P9.1, by hand, of the sums c1d04330 (a) and b695ae48 (a with a byte 7 behind), and of 0 (nothing) and 86b737ba (a byte 7).
+// TestPlacesExamples: P9.1, numbers that were worked out apart from the program, bit by bit, of the sums c1d04330 (a) and b695ae48 (a with a byte 7 behind), and of 0 (nothing) and 86b737ba (a byte 7).
 func TestPlacesExamples(t *testing.T) {
 	for _, c := range []struct {
 		key    string
