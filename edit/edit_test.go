@@ -68,6 +68,8 @@ func examples() map[string]edit.Edit {
 			Number: math.MaxUint64, Size: math.MaxUint64, Count: math.MaxUint64, Least: "a", Most: x(200)}}),
 		"\x00\x00\x00\x01\x00\x01\x05\x01\xc8\x01" + x(200) + "\xc8\x01" + x(200) + "\x00": come(at(0, 1, x(200), x(200))),
 		"\x00\x00\x00\x00\x01\x00\x01":                  gone(edit.Gone{Number: 1}),
+		"\x00\x00\x00\x00\x01\x00\x00":                  gone(edit.Gone{}),
+		"\x00\x00\x00\x00\x03\x03\x00\x01\x07\x01\x00":  gone(edit.Gone{Level: 3}, edit.Gone{Level: 1, Number: 7}, edit.Gone{Level: 1}),
 		"\x00\x00\x00\x00\x02\x03\xac\x02\x01" + utmost: gone(edit.Gone{Level: 3, Number: 300}, edit.Gone{Level: 1, Number: math.MaxUint64}),
 		"\x07\x08\x09\x02\x01\x04\x03\x02\x01b\x01c\x00\x05\x06\x07\x01a\x01d\x02\x00\x04\x02\x05": {Log: 7, Next: 8, Seq: 9,
 			Come: []edit.At{{Level: 1, File: edit.File{Number: 4, Size: 3, Count: 2, Least: "b", Most: "c"}}, {File: edit.File{Number: 5, Size: 6, Count: 7, Least: "a", Most: "d"}}},
@@ -179,9 +181,13 @@ func TestCheck(t *testing.T) {
 	}
 	for n, wanted := range map[uint64]api.Errno{0: api.ErrRange, 1: api.OK, 1 << 32: api.OK, math.MaxUint64: api.OK} {
 		checked(t, fmt.Sprint("the number ", n, " comes"), come(a, at(3, n, "a", "b")), wanted)
-		checked(t, fmt.Sprint("the number ", n, " goes"), gone(g, edit.Gone{Level: 3, Number: n}), wanted)
+		for level := range api.Levels {
+			checked(t, fmt.Sprint("the number ", n, " goes"), gone(g, edit.Gone{Level: level, Number: n}), api.OK)
+		}
 	}
 	checked(t, "no bytes, no entries", come(edit.At{File: edit.File{Number: 1, Least: "a", Most: "a"}}), api.OK)
+	checked(t, "the number 0 alone goes", gone(edit.Gone{}), api.OK)
+	checked(t, "the number 0 goes 200 times", gone(make([]edit.Gone, 200)...), api.OK)
 	checked(t, "the same one comes, and goes, twice", edit.Edit{Come: comes(2), Go: goes(2)}, api.OK)
 }
 
@@ -196,6 +202,7 @@ func TestCheckFirst(t *testing.T) {
 		want api.Errno
 	}{
 		{"too many come, all wrong", come(slices.Repeat([]edit.At{at(-1, 0, "", "")}, 201)...), api.ErrMany},
+		{"too many go, of the number 0", gone(make([]edit.Gone, 201)...), api.ErrMany},
 		{"too many go, all wrong", gone(slices.Repeat([]edit.Gone{{Level: -1}}, 201)...), api.ErrMany},
 		{"what comes is wrong, too many go", edit.Edit{Come: []edit.At{level}, Go: slices.Repeat([]edit.Gone{g}, 201)}, api.ErrMany},
 		{"level, key and number", come(at(4, 0, "", "")), api.ErrLevel},
@@ -213,12 +220,14 @@ func TestCheckFirst(t *testing.T) {
 		{"the last one's level", come(append(slices.Repeat([]edit.At{a}, 199), level)...), api.ErrLevel},
 		{"key of what comes, level of what goes", both(key, from), api.ErrKey},
 		{"number of what comes, level of what goes", both(number, from), api.ErrRange},
-		{"level of what comes, number of what goes", both(level, none), api.ErrLevel},
+		{"level of what comes, the number 0 goes", both(level, none), api.ErrLevel},
 		{"level of what goes alone", both(a, from), api.ErrLevel},
-		{"number of what goes alone", both(a, none), api.ErrRange},
-		{"level and number of what goes", gone(edit.Gone{Level: 4}), api.ErrLevel},
-		{"level, then number, of what goes", gone(from, none), api.ErrLevel},
-		{"number, then level, of what goes", gone(none, from), api.ErrRange},
+		{"the number 0 goes", both(a, none), api.OK},
+		{"key of what comes, the number 0 goes", both(key, none), api.ErrKey},
+		{"number of what comes, the number 0 goes", both(number, none), api.ErrRange},
+		{"level of what goes, and the number 0", gone(edit.Gone{Level: 4}), api.ErrLevel},
+		{"level of what goes, then the number 0", gone(from, none), api.ErrLevel},
+		{"the number 0, then level of what goes", gone(none, from), api.ErrLevel},
 		{"the last one that goes", gone(append(slices.Repeat([]edit.Gone{g}, 199), from)...), api.ErrLevel},
 	} {
 		checked(t, c.what, c.e, c.want)

@@ -126,7 +126,7 @@ func TestParseErrors(t *testing.T) {
 		{"keys turned round", one + "\x00\x01\x05\x01\x01b\x01a\x00", api.ErrKey},
 		{"the number 0 comes", one + "\x00\x00\x05\x01\x01a\x01b\x00", api.ErrRange},
 		{"the number 0 comes, without keys", one + "\x00\x00\x05\x01\x00\x00\x00", api.ErrKey},
-		{"the number 0 goes", none + "\x01\x02\x00", api.ErrRange},
+		{"the number 0 comes, and goes", one + "\x00\x00\x05\x01\x01a\x01b\x01\x00\x00", api.ErrRange},
 		{"the number 0 comes, then no keys", told + "\x02\x00\x00\x05\x01\x01a\x01b\x00\x01\x05\x01\x00\x00\x00", api.ErrRange},
 		{"no keys, and it is cut", one + "\x00\x01\x05\x01\x00\x00", api.ErrShort},
 		{"no keys, and more", one + "\x00\x01\x05\x01\x00\x00\x00\x00", api.ErrForm},
@@ -240,11 +240,6 @@ func parsed(s string) (edit.Edit, api.Errno) {
 			r.fail(api.ErrRange)
 		}
 	}
-	for _, g := range e.Go {
-		if g.Number == 0 {
-			r.fail(api.ErrRange)
-		}
-	}
 	if r.err != api.OK {
 		return edit.Edit{}, r.err
 	}
@@ -330,7 +325,7 @@ func (d *dice) edit() edit.Edit {
 		e.Come = append(e.Come, edit.At{Level: d.below(4), File: f})
 	}
 	for range d.below(8) {
-		e.Go = append(e.Go, edit.Gone{Level: d.below(4), Number: max(d.number(), uint64(d.below(20)))})
+		e.Go = append(e.Go, edit.Gone{Level: d.below(4), Number: d.number()})
 	}
 	return e
 }

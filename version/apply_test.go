@@ -114,6 +114,7 @@ func TestGo(t *testing.T) {
 	applied(t, "those that overlap go", v, edit.Edit{Go: gone(1, 5, 6), Come: come(1, file(77, "a", "d"))}, of(zero, []edit.File{file(77, "a", "d"), one[2]}, two))
 	applied(t, "a compaction", v, edit.Edit{Log: 7, Go: slices.Concat(gone(0, 9, 8, 7), gone(1, 6, 5, 4)), Come: come(1, file(21, "m", "z"), file(20, "a", "k"))},
 		of(nil, []edit.File{file(20, "a", "k"), file(21, "m", "z")}, two))
+	applied(t, "it takes the number 0 out of a wrong one", of(nil, []edit.File{file(5, "a", "b"), file(0, "c", "d")}), edit.Edit{Go: gone(1, 0)}, of(nil, spans(5, "a b")))
 	applied(t, "it takes a turned level out of a wrong one", of(nil, spans(5, "c d", "a b")), edit.Edit{Go: gone(1, 5)}, of(nil, spans(4, "a b")))
 }
 
@@ -137,8 +138,12 @@ func TestApplyErrors(t *testing.T) {
 		{"keys turned round", edits(come(3, file(20, "b", "a")), nil), api.ErrKey},
 		{"a key of 201", edits(come(3, file(20, "a", x(201))), nil), api.ErrKey},
 		{"the number 0 comes", edits(come(3, file(0, "a", "b")), nil), api.ErrRange},
-		{"the number 0 goes", edits(nil, gone(0, 0)), api.ErrRange},
 
+		{"the number 0 goes", edits(nil, gone(0, 0)), api.ErrNone},
+		{"the number 0 goes from a level without files", edits(nil, gone(3, 0)), api.ErrNone},
+		{"the number 0 goes behind others", edits(nil, append(gone(1, 6), gone(0, 9, 0)...)), api.ErrNone},
+		{"the number 0 goes and comes", edits(come(3, file(0, "a", "b")), gone(3, 0)), api.ErrRange},
+		{"the number 0 goes, then one from the level 4", edits(nil, append(gone(0, 0), gone(4, 9)...)), api.ErrLevel},
 		{"one that isn't there goes", edits(nil, gone(0, 20)), api.ErrNone},
 		{"one of another level goes", edits(nil, gone(0, 6)), api.ErrNone},
 		{"one of level 0 goes from level 1", edits(nil, gone(1, 9)), api.ErrNone},
@@ -176,6 +181,7 @@ func TestApplyErrors(t *testing.T) {
 		refused(t, c.what, v, c.e, c.want)
 	}
 	refused(t, "none goes from none", version.Version{}, edits(nil, gone(0, 1)), api.ErrNone)
+	refused(t, "the number 0 goes from none", version.Version{}, edits(nil, gone(0, 0)), api.ErrNone)
 	for _, wrong := range []version.Version{of(nil, spans(5, "c d", "a b")), of([]edit.File{file(1, "a", "b"), file(2, "a", "b")}), on(3, spans(5, "a c", "b d")...), of(spans(5, "b a")), of(spans(5, "a b"), spans(5, "a b")), on(2, file(0, "a", "b"))} {
 		refused(t, "a wrong one", wrong, edit.Edit{}, api.ErrBroken)
 		refused(t, "a wrong one, and one comes", wrong, edits(come(3, file(20, "y", "z")), nil), api.ErrBroken)

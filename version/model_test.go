@@ -134,7 +134,7 @@ func (d *dice) edit(m model, next *uint64, kinds, most int) edit.Edit {
 		}
 	}
 	if d.below(20) == 0 {
-		e.Go = append(e.Go, edit.Gone{Level: d.below(4), Number: uint64(1 + d.below(int(*next)))})
+		e.Go = append(e.Go, edit.Gone{Level: d.below(4), Number: uint64(d.below(int(*next) + 1))})
 	}
 	for i := range e.Go {
 		j := d.below(i + 1)
