@@ -149,3 +149,27 @@ func TestFoldOfFold(t *testing.T) {
 		list(t, fmt.Sprint("each ", n*m, " of candles of ", l), again, wanted...)
 	}
 }
+
+// TestFoldOfFoldOver is P35.3: of sizes that aren't below 0 one is too much in both ways, or in none.
+func TestFoldOfFoldOver(t *testing.T) {
+	d := dice(354)
+	over := 0
+	for range 5000 {
+		l := make([]candle.Tick, d.below(20))
+		for i := range l {
+			l[i] = candle.Tick{Price: d.number(), Size: int64(most) >> (1 + d.below(6))}
+		}
+		n, m := 1+d.below(4), 1+d.below(4)
+		got, e := candle.Of(l, n)
+		if e == api.OK {
+			got, e = candle.Fold(got, m)
+		}
+		wanted, we := candle.Of(l, n*m)
+		list(t, fmt.Sprint("each ", n, ", then each ", m, ", of ", l), got, wanted...)
+		want(t, fmt.Sprint("each ", n, ", then each ", m, ", of ", l, ": error"), e, we)
+		if we == api.ErrOver {
+			over++
+		}
+	}
+	want(t, fmt.Sprint("too much ", over, " times"), over > 1000 && over < 4000, true)
+}
